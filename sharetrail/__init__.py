@@ -1,0 +1,1 @@
+"""Sharetrail: loads that many partners send with one train, and whose each piece is."""

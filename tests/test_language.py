@@ -1,0 +1,126 @@
+"""The package keeps to the small part of Python that it is written in, as far as a walk of its files can tell."""
+
+import ast
+import builtins
+import pathlib
+import re
+import unittest
+
+PACKAGE = pathlib.Path(__file__).resolve().parent.parent / "sharetrail"
+FILES = sorted(PACKAGE.glob("*.py"))
+
+BUILTINS = set(
+    "len range enumerate zip min max sum abs sorted reversed int str bool bytes list tuple dict set isinstance ord repr"
+    " any all divmod Exception ValueError TypeError KeyError IndexError LookupError ZeroDivisionError ArithmeticError"
+    " OverflowError RuntimeError NotImplementedError AttributeError StopIteration".split()
+)
+METHODS = set(
+    "append clear copy count endswith extend find get index insert isalnum isalpha isdigit islower isspace isupper items"
+    " join keys ljust lower lstrip partition pop remove replace reverse rfind rjust rpartition rsplit rstrip setdefault"
+    " split splitlines startswith strip update upper values zfill bit_length add discard sort __init__".split()
+)
+WORDS = re.compile(
+    r"\b(type|typing|typing_extensions|enum|Enum|IntEnum|StrEnum|Flag|IntFlag|Generic|Protocol|ABC|ABCMeta|namedtuple"
+    r"|NamedTuple|TypedDict|TYPE_CHECKING|abstractmethod)\b|dataclass|overload|contextmanager"
+)
+NAMES = set(
+    "register mro elements open input version_info with_traceback add_note attrgetter breakpoint builtins compile"
+    " copyright credits delattr dir eval exec exit gc getattr globals hasattr help id importlib license locals"
+    " methodcaller os quit setattr super vars sys format format_map".split()
+)
+NODES = (
+    ast.GeneratorExp, ast.NamedExpr, ast.Div, ast.With, ast.Match, ast.Global, ast.Nonlocal, ast.Yield, ast.YieldFrom,
+    ast.AsyncFunctionDef, ast.AsyncFor, ast.AsyncWith, ast.Await, ast.Import, ast.MatMult, ast.TryStar,
+)
+
+
+def defined(tree):
+    """The names that a file binds at its top by itself."""
+    names = [row.name for row in tree.body if isinstance(row, (ast.FunctionDef, ast.ClassDef))]
+    return names + [target.id for row in tree.body if isinstance(row, ast.Assign) for target in row.targets]
+
+
+class Language(unittest.TestCase):
+    def walk(self, kind):
+        for file in FILES:
+            for node in ast.walk(ast.parse(file.read_text())):
+                if isinstance(node, kind):
+                    with self.subTest(file=file.name, line=getattr(node, "lineno", 0)):
+                        yield node
+
+    def test_files(self):
+        others = [path.name for path in PACKAGE.iterdir() if path not in FILES and path.name != "__pycache__"]
+        self.assertEqual(others, [])
+        self.assertIn("__init__.py", [file.name for file in FILES])
+
+    def test_rows_and_signs(self):
+        for file in FILES:
+            text = file.read_text()
+            self.assertRegex(text, r"\A[ -~\n]*\Z", file.name)
+            self.assertLessEqual(len(text.splitlines()), 400, file.name)
+            self.assertLessEqual(max(len(row) for row in text.splitlines()), 120, file.name)
+            self.assertIsNone(WORDS.search(text), file.name)
+
+    def test_defs(self):
+        for node in self.walk(ast.FunctionDef):
+            self.assertLessEqual(node.end_lineno - node.lineno + 1, 40)
+            self.assertEqual(node.decorator_list, [])
+            self.assertEqual((node.args.vararg, node.args.kwarg, node.args.posonlyargs), (None, None, []))
+
+    def test_classes(self):
+        for node in self.walk(ast.ClassDef):
+            self.assertEqual((node.decorator_list, node.keywords), ([], []))
+            self.assertLessEqual(len(node.bases), 1)
+            for row in node.body:
+                docstring = isinstance(row, ast.Expr) and isinstance(row.value, ast.Constant)
+                self.assertTrue(docstring or isinstance(row, (ast.FunctionDef, ast.Pass)))
+
+    def test_imports(self):
+        tops = {f"sharetrail.{file.stem}": ast.parse(file.read_text()) for file in FILES}
+        for node in self.walk(ast.ImportFrom):
+            self.assertEqual(node.level, 0)
+            self.assertIn(node.module, tops)
+            for name in node.names:
+                self.assertIn(name.name, defined(tops[node.module]))
+
+    def test_each_name_once(self):
+        for file in FILES:
+            names = defined(ast.parse(file.read_text()))
+            self.assertEqual(len(names), len(set(names)), file.name)
+
+    def test_no_other_statements(self):
+        for node in self.walk(NODES):
+            self.fail(node)
+        for node in self.walk((ast.For, ast.While)):
+            self.assertEqual(node.orelse, [])
+
+    def test_values(self):
+        for node in self.walk(ast.Constant):
+            self.assertNotIsInstance(node.value, (float, complex))
+            self.assertFalse(isinstance(node.value, str) and "\x25" in node.value)
+
+    def test_names(self):
+        for node in self.walk(ast.Name):
+            self.assertFalse(node.id.startswith("_"))
+            self.assertNotIn(node.id, NAMES)
+            if hasattr(builtins, node.id):
+                self.assertIn(node.id, BUILTINS)
+                self.assertIsInstance(node.ctx, ast.Load)
+        for node in self.walk(ast.arg):
+            self.assertFalse(hasattr(builtins, node.arg) or node.arg in NAMES or node.arg.startswith("_"))
+
+    def test_methods(self):
+        own = [node.name for node in self.walk(ast.FunctionDef)]
+        for node in self.walk(ast.Call):
+            if isinstance(node.func, ast.Attribute):
+                self.assertIn(node.func.attr, METHODS | set(own))
+
+    def test_is_beside_none_true_and_false_alone(self):
+        for node in self.walk(ast.Compare):
+            if any(isinstance(sign, (ast.Is, ast.IsNot)) for sign in node.ops):
+                sides = [node.left] + node.comparators
+                self.assertTrue(any(isinstance(side, ast.Constant) and side.value in (None, True, False) for side in sides))
+
+
+if __name__ == "__main__":
+    unittest.main()
