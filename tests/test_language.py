@@ -40,14 +40,17 @@ def defined(tree):
     return names + [target.id for row in tree.body if isinstance(row, ast.Assign) for target in row.targets]
 
 
-class Language(unittest.TestCase):
-    def walk(self, kind):
-        for file in FILES:
-            for node in ast.walk(ast.parse(file.read_text())):
-                if isinstance(node, kind):
-                    with self.subTest(file=file.name, line=getattr(node, "lineno", 0)):
-                        yield node
+def nodes(*kinds):
+    """All nodes of these kinds in the package, each with the place where it stands."""
+    found = []
+    for file in FILES:
+        for node in ast.walk(ast.parse(file.read_text())):
+            if isinstance(node, kinds):
+                found.append((node, f"{file.name}:{getattr(node, 'lineno', 0)}"))
+    return found
 
+
+class Language(unittest.TestCase):
     def test_files(self):
         others = [path.name for path in PACKAGE.iterdir() if path not in FILES and path.name != "__pycache__"]
         self.assertEqual(others, [])
@@ -62,26 +65,26 @@ class Language(unittest.TestCase):
             self.assertIsNone(WORDS.search(text), file.name)
 
     def test_defs(self):
-        for node in self.walk(ast.FunctionDef):
-            self.assertLessEqual(node.end_lineno - node.lineno + 1, 40)
-            self.assertEqual(node.decorator_list, [])
-            self.assertEqual((node.args.vararg, node.args.kwarg, node.args.posonlyargs), (None, None, []))
+        for node, where in nodes(ast.FunctionDef):
+            self.assertLessEqual(node.end_lineno - node.lineno + 1, 40, where)
+            self.assertEqual(node.decorator_list, [], where)
+            self.assertEqual((node.args.vararg, node.args.kwarg, node.args.posonlyargs), (None, None, []), where)
 
     def test_classes(self):
-        for node in self.walk(ast.ClassDef):
-            self.assertEqual((node.decorator_list, node.keywords), ([], []))
-            self.assertLessEqual(len(node.bases), 1)
+        for node, where in nodes(ast.ClassDef):
+            self.assertEqual((node.decorator_list, node.keywords), ([], []), where)
+            self.assertLessEqual(len(node.bases), 1, where)
             for row in node.body:
                 docstring = isinstance(row, ast.Expr) and isinstance(row.value, ast.Constant)
-                self.assertTrue(docstring or isinstance(row, (ast.FunctionDef, ast.Pass)))
+                self.assertTrue(docstring or isinstance(row, (ast.FunctionDef, ast.Pass)), where)
 
     def test_imports(self):
         tops = {f"sharetrail.{file.stem}": ast.parse(file.read_text()) for file in FILES}
-        for node in self.walk(ast.ImportFrom):
-            self.assertEqual(node.level, 0)
-            self.assertIn(node.module, tops)
+        for node, where in nodes(ast.ImportFrom):
+            self.assertEqual(node.level, 0, where)
+            self.assertIn(node.module, tops, where)
             for name in node.names:
-                self.assertIn(name.name, defined(tops[node.module]))
+                self.assertIn(name.name, defined(tops[node.module]), where)
 
     def test_each_name_once(self):
         for file in FILES:
@@ -89,37 +92,37 @@ class Language(unittest.TestCase):
             self.assertEqual(len(names), len(set(names)), file.name)
 
     def test_no_other_statements(self):
-        for node in self.walk(NODES):
-            self.fail(node)
-        for node in self.walk((ast.For, ast.While)):
-            self.assertEqual(node.orelse, [])
+        self.assertEqual(nodes(*NODES), [])
+        for node, where in nodes(ast.For, ast.While):
+            self.assertEqual(node.orelse, [], where)
 
     def test_values(self):
-        for node in self.walk(ast.Constant):
-            self.assertNotIsInstance(node.value, (float, complex))
-            self.assertFalse(isinstance(node.value, str) and "\x25" in node.value)
+        for node, where in nodes(ast.Constant):
+            self.assertNotIsInstance(node.value, (float, complex), where)
+            self.assertFalse(isinstance(node.value, str) and "\x25" in node.value, where)
 
     def test_names(self):
-        for node in self.walk(ast.Name):
-            self.assertFalse(node.id.startswith("_"))
-            self.assertNotIn(node.id, NAMES)
+        for node, where in nodes(ast.Name):
+            self.assertFalse(node.id.startswith("_") or node.id in NAMES, where)
             if hasattr(builtins, node.id):
-                self.assertIn(node.id, BUILTINS)
-                self.assertIsInstance(node.ctx, ast.Load)
-        for node in self.walk(ast.arg):
-            self.assertFalse(hasattr(builtins, node.arg) or node.arg in NAMES or node.arg.startswith("_"))
+                self.assertIn(node.id, BUILTINS, where)
+                self.assertIsInstance(node.ctx, ast.Load, where)
+        for node, where in nodes(ast.arg):
+            self.assertFalse(hasattr(builtins, node.arg) or node.arg in NAMES or node.arg.startswith("_"), where)
 
     def test_methods(self):
-        own = [node.name for node in self.walk(ast.FunctionDef)]
-        for node in self.walk(ast.Call):
+        own = {node.name for node, where in nodes(ast.FunctionDef)}
+        for node, where in nodes(ast.Call):
             if isinstance(node.func, ast.Attribute):
-                self.assertIn(node.func.attr, METHODS | set(own))
+                self.assertIn(node.func.attr, METHODS | own, where)
 
     def test_is_beside_none_true_and_false_alone(self):
-        for node in self.walk(ast.Compare):
+        for node, where in nodes(ast.Compare):
             if any(isinstance(sign, (ast.Is, ast.IsNot)) for sign in node.ops):
                 sides = [node.left] + node.comparators
-                self.assertTrue(any(isinstance(side, ast.Constant) and side.value in (None, True, False) for side in sides))
+                values = [side.value for side in sides if isinstance(side, ast.Constant)]
+                # 1 equals True, so no "in" here.
+                self.assertTrue(any(value is None or isinstance(value, bool) for value in values), where)
 
 
 if __name__ == "__main__":
