@@ -1,4 +1,4 @@
-"""Whole numbers, and the reckoning with amounts: tuples (top, bottom) in lowest terms."""
+"""Whole numbers, what is the same to the last part, and amounts: tuples (top, bottom) in lowest terms."""
 
 NOTHING = (0, 1)
 ALL = (1, 1)
@@ -18,6 +18,21 @@ def is_from(thing, low):
 def is_within(thing, low, high):
     """Whether a thing of whatever kind is a whole number from low to high."""
     return is_from(thing, low) and thing <= high
+
+
+def are_same(things, told):
+    """Whether there are as many things as are told, each of them just the one told at its place."""
+    return len(things) == len(told) and all([is_same(thing, told[at]) for at, thing in enumerate(things)])
+
+
+def is_same(thing, told):
+    """Whether a thing of whatever kind is just what is told: numbers, and lists and tuples of such."""
+    # By == alone True would be 1, and tuples with True in them would be those with 1.
+    if isinstance(told, tuple):
+        return isinstance(thing, tuple) and are_same(thing, told)
+    if isinstance(told, list):
+        return isinstance(thing, list) and are_same(thing, told)
+    return is_whole(thing) and thing == told
 
 
 def greatest_divisor(one, other):
@@ -55,6 +70,12 @@ def less(one, other):
 def times(one, other):
     """The one amount times the other."""
     return lowest(one[0] * other[0], one[1] * other[1])
+
+
+def mixed(one, weight, other, more):
+    """The one amount so many times and the other so many times, divided by how many times that is."""
+    top = one[0] * other[1] * weight + other[0] * one[1] * more
+    return lowest(top, one[1] * other[1] * (weight + more))
 
 
 def total(amounts):

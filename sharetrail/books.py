@@ -1,7 +1,7 @@
 """Shares, trains, loads, deeds and books; which deeds can be done, and the loads that they make."""
 
 from sharetrail.amounts import ALL, is_amount, is_from, is_within, total
-from sharetrail.errors import NoNumber, NotDone
+from sharetrail.errors import NoLoad, NoNumber, NoPartner, NotDone
 
 MOST_FIRST = 4
 MOST_DEEDS = 20
@@ -206,9 +206,32 @@ def held_behind(held, deed):
     return held
 
 
+def held_at_first(book):
+    """The kind and the pieces of each load that the book begins with."""
+    return [(load[0], load[1]) for load in book[1]]
+
+
+def held_by(book, many):
+    """Each load's kind and pieces behind so many deeds of a book whose deeds can be done."""
+    held = held_at_first(book)
+    for deed in book[2][:many]:
+        held = held_behind(held, deed)
+    return held
+
+
+def made_from(deed):
+    """The loads that the deed makes another one of, in order of their numbers."""
+    word = deed[0]
+    if word == "pool":
+        return sorted([deed[1], deed[2]])
+    if word in ("swap", "trade"):
+        return [deed[-4]]
+    return []
+
+
 def first_wrong(book):
     """The place of the first deed that can't be done, None where all can."""
-    held = [(load[0], load[1]) for load in book[1]]
+    held = held_at_first(book)
     deeds = book[2]
     for at, deed in enumerate(deeds):
         if not can_do(held, deeds[:at], deed):
@@ -224,12 +247,39 @@ def refuse_undone(book):
         raise NotDone(wrong)
 
 
+def many_loads(book, many):
+    """How many loads there are behind so many deeds, be they without pieces."""
+    return len(book[1]) + len([deed for deed in book[2][:many] if deed[0] in MAKERS])
+
+
+def is_place(book, thing):
+    """Whether a thing of whatever kind is the place of a deed."""
+    return is_within(thing, 0, len(book[2]) - 1)
+
+
+def refuse_no_number(book, many):
+    """Refuses what is no number of the book's deeds."""
+    if not is_within(many, 0, len(book[2])):
+        raise NoNumber("the book hasn't so many deeds")
+
+
+def refuse_no_load(book, load):
+    """Refuses what is no number of a load of the book, be it made by the last deed."""
+    if not is_within(load, 0, many_loads(book, len(book[2])) - 1):
+        raise NoLoad("the book makes no load of this number")
+
+
+def refuse_no_partner(book, partner):
+    """Refuses what is no partner of the book's train."""
+    if not is_partner(book[0], partner):
+        raise NoPartner("the train has no such partner")
+
+
 def made_by(book, place):
     """The number of the load that the deed at the place made, None where it makes none."""
     refuse_undone(book)
-    first, deeds = book[1], book[2]
-    if not is_within(place, 0, len(deeds) - 1):
+    if not is_place(book, place):
         raise NoNumber("no deed of the book has this place")
-    if deeds[place][0] not in MAKERS:
+    if book[2][place][0] not in MAKERS:
         return None
-    return len(first) + len([deed for deed in deeds[:place] if deed[0] in MAKERS])
+    return many_loads(book, place)

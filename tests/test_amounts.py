@@ -1,20 +1,18 @@
 """[2]: whole numbers, and the reckoning with amounts."""
 
+import copy
 import unittest
 from fractions import Fraction
 
 from sharetrail.amounts import (
-    ALL, NOTHING, greatest_divisor, is_amount, is_from, is_whole, is_within, less, lowest, plus, times, total,
+    ALL, NOTHING, greatest_divisor, is_amount, is_from, is_same, is_whole, is_within, less, lowest, mixed, plus, times,
+    total,
 )
-from things import NO_NUMBERS
+from things import NO_NUMBERS, WHATEVER, amount
 
 AMOUNTS = [
     (0, 1), (1, 1), (1, 2), (2, 3), (5, 4), (7, 12), (11, 6), (-1, 2), (-7, 3), (10 ** 39, 7), (1, 10 ** 39 + 1),
 ]
-
-
-def amount_of(fraction):
-    return (fraction.numerator, fraction.denominator)
 
 
 class Wholes(unittest.TestCase):
@@ -35,8 +33,8 @@ class Wholes(unittest.TestCase):
 
 class Forms(unittest.TestCase):
     def test_amounts(self):
-        for amount in AMOUNTS:
-            self.assertIs(is_amount(amount), True, amount)
+        for one in AMOUNTS:
+            self.assertIs(is_amount(one), True, one)
 
     def test_not_in_lowest_terms(self):
         for thing in ((0, 2), (2, 2), (2, 4), (-2, 4), (6, 9), (0, 10 ** 39), (10 ** 39, 10 ** 39)):
@@ -55,6 +53,28 @@ class Forms(unittest.TestCase):
                 self.assertIs(is_amount((thing, 1)), False, thing)
 
 
+class Same(unittest.TestCase):
+    def test_same(self):
+        for told in (0, 1, -1, 10 ** 50, (), [], (1, 2), [1, 2], [(1,), ((0, 1), [2])], ((), [])):
+            self.assertIs(is_same(copy.deepcopy(told), told), True, told)
+
+    def test_truths(self):
+        pairs = [(True, 1), (False, 0), ((True,), (1,)), ([(1, False)], [(1, 0)]), ((0, (1, True)), (0, (1, 1)))]
+        for thing, told in pairs:
+            self.assertEqual(thing, told)
+            self.assertIs(is_same(thing, told), False, thing)
+
+    def test_other_things(self):
+        told = [(1, (2, 3)), 4]
+        others = [
+            ((1, (2, 3)), 4), [[1, (2, 3)], 4], [(1, [2, 3]), 4], [(1, (2, 3)), 5], [(1, (2, 3))], [(1, (2, 3)), 4, 4],
+            [(1, (2, 3, 3)), 4], [(1, (3, 2)), 4], [4, (1, (2, 3))], [(1, 2, 3), 4], [], {}, None, "", 4, [1, 4],
+            [None, None],
+        ]
+        for thing in others + WHATEVER:
+            self.assertIs(is_same(thing, told), False, thing)
+
+
 class Reckoning(unittest.TestCase):
     def test_names(self):
         self.assertEqual((NOTHING, ALL), ((0, 1), (1, 1)))
@@ -68,22 +88,29 @@ class Reckoning(unittest.TestCase):
             (0, 1, (0, 1)), (0, 9, (0, 1)), (4, 2, (2, 1)), (6, 9, (2, 3)), (-6, 9, (-2, 3)), (-5, 1, (-5, 1)),
             (2 * 10 ** 39, 4 * 10 ** 39, (1, 2)),
         )
-        for top, bottom, amount in cases:
-            self.assertEqual(lowest(top, bottom), amount)
+        for top, bottom, told in cases:
+            self.assertEqual(lowest(top, bottom), told)
 
     def test_two_amounts(self):
         for one in AMOUNTS:
             for other in AMOUNTS:
                 left, right = Fraction(*one), Fraction(*other)
-                self.assertEqual(plus(one, other), amount_of(left + right))
-                self.assertEqual(less(one, other), amount_of(left - right))
-                self.assertEqual(times(one, other), amount_of(left * right))
+                self.assertEqual(plus(one, other), amount(left + right))
+                self.assertEqual(less(one, other), amount(left - right))
+                self.assertEqual(times(one, other), amount(left * right))
+
+    def test_mixed(self):
+        for one in AMOUNTS:
+            for other in AMOUNTS:
+                for weight, more in ((1, 1), (3, 5), (6, 0), (0, 6), (10 ** 39, 1)):
+                    mean = (Fraction(*one) * weight + Fraction(*other) * more) / (weight + more)
+                    self.assertEqual(mixed(one, weight, other, more), amount(mean))
 
     def test_total(self):
         self.assertEqual(total([]), (0, 1))
         self.assertEqual(total(()), (0, 1))
         self.assertEqual(total(((1, 2), (1, 3), (1, 6))), (1, 1))
-        self.assertEqual(total(AMOUNTS), amount_of(sum([Fraction(*one) for one in AMOUNTS])))
+        self.assertEqual(total(AMOUNTS), amount(sum([Fraction(*one) for one in AMOUNTS])))
 
 
 if __name__ == "__main__":

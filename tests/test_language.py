@@ -86,6 +86,37 @@ class Language(unittest.TestCase):
             for name in node.names:
                 self.assertIn(name.name, defined(tops[node.module]), where)
 
+    def test_no_two_files_draw_from_one_another(self):
+        drawn = {}
+        for file in FILES:
+            rows = [row for row in ast.parse(file.read_text()).body if isinstance(row, ast.ImportFrom)]
+            drawn[f"sharetrail.{file.stem}"] = {row.module for row in rows}
+        for module in drawn:
+            reached, fresh = set(), set(drawn[module])
+            while fresh:
+                reached |= fresh
+                fresh = set().union(*[drawn[other] for other in fresh]) - reached
+            self.assertNotIn(module, reached)
+
+    def test_locals_are_called_unlike_imports_and_classes(self):
+        for file in FILES:
+            tree = ast.parse(file.read_text())
+            taken = {name.name for row in tree.body if isinstance(row, ast.ImportFrom) for name in row.names}
+            taken |= {row.name for row in tree.body if isinstance(row, ast.ClassDef)}
+            for node in ast.walk(tree):
+                if isinstance(node, ast.Name) and isinstance(node.ctx, ast.Store):
+                    self.assertNotIn(node.id, taken, f"{file.name}:{node.lineno}")
+                if isinstance(node, ast.arg):
+                    self.assertNotIn(node.arg, taken, f"{file.name}:{node.lineno}")
+
+    def test_nothing_is_drawn_in_vain(self):
+        for file in FILES:
+            tree = ast.parse(file.read_text())
+            used = {node.id for node in ast.walk(tree) if isinstance(node, ast.Name)}
+            for row in tree.body:
+                if isinstance(row, ast.ImportFrom):
+                    self.assertLessEqual({name.name for name in row.names}, used, file.name)
+
     def test_each_name_once(self):
         for file in FILES:
             names = defined(ast.parse(file.read_text()))

@@ -1,0 +1,161 @@
+"""[6]: what is refused, with which class, and what is looked at first."""
+
+import copy
+import unittest
+
+from sharetrail.chains import come_home, first_chain, is_chain, made_of, many_chains, origins_of, reached
+from sharetrail.errors import NoLoad, NoNumber, NoPartner, NotDone, NoThrow
+from sharetrail.loads import holders_by, loads_by, theirs_by
+from sharetrail.stops import flows_by, sheet_holds, stock_by
+from sharetrail.throws import bearing, bearing_holds, cost_of
+from things import MIXED, NO_NUMBERS, TRAIN, UNDONE, WHATEVER
+
+# What each is asked behind its book.
+ASKED = {
+    loads_by: ("many",),
+    holders_by: ("many",),
+    theirs_by: ("many", "partner"),
+    stock_by: ("many",),
+    flows_by: ("many",),
+    sheet_holds: ("thing",),
+    made_of: ("load",),
+    origins_of: ("load",),
+    is_chain: ("load", "thing"),
+    first_chain: ("load",),
+    many_chains: ("load",),
+    reached: ("load",),
+    come_home: (),
+    cost_of: ("place",),
+    bearing: ("place",),
+    bearing_holds: ("place", "thing"),
+}
+CLASSES = {"many": NoNumber, "partner": NoPartner, "load": NoLoad, "place": NoThrow}
+# Of the book MIXED: right ones, and the numbers that are one too many.
+RIGHT = {"many": (0, 1, 13), "partner": (0, 1), "load": (0, 9), "place": (4, 8, 12), "thing": (None, (0,))}
+BEYOND = {"many": (14, 15), "partner": (2, 3), "load": (10, 11), "place": (0, 5, 13, 14)}
+NOWHERE = NO_NUMBERS + ["a" * 4000, 10 ** 39, 10 ** 40 - 1, 10 ** 40, (0,), [0], {0: 0}, None, "0"]
+
+
+def wrong_of(part):
+    """What is refused where this part is asked."""
+    return list(BEYOND[part]) + NOWHERE + [thing for thing in WHATEVER if not is_right(part, thing)]
+
+
+def is_right(part, thing):
+    bounds = {"many": range(14), "partner": range(2), "load": range(10), "place": (4, 8, 12)}
+    return not isinstance(thing, bool) and thing in bounds[part]
+
+
+def with_things(parts, chosen):
+    """What is handed in: what was chosen, and right things else."""
+    return [chosen.get(at, RIGHT[part][0]) for at, part in enumerate(parts)]
+
+
+class Refusals(unittest.TestCase):
+    def refused(self, error, asked, book, things):
+        with self.assertRaises(error) as taken:
+            asked(book, *things)
+        self.assertIs(type(taken.exception), error)
+        return taken.exception
+
+    def test_right_ones_are_not_refused(self):
+        for asked, parts in ASKED.items():
+            for at, part in enumerate(parts):
+                for thing in RIGHT[part]:
+                    asked(MIXED, *with_things(parts, {at: thing}))
+
+    def test_each_wrong_thing(self):
+        for asked, parts in ASKED.items():
+            for at, part in enumerate(parts):
+                for thing in wrong_of(part) if part in CLASSES else []:
+                    self.refused(CLASSES[part], asked, MIXED, with_things(parts, {at: thing}))
+
+    def test_the_left_one_first(self):
+        for many in wrong_of("many"):
+            for partner in (2, -1, None, True, [0], (0,), {}, "0", 10 ** 39):
+                self.refused(NoNumber, theirs_by, MIXED, (many, partner))
+
+    def test_a_thing_of_whatever_kind_does_not_hide_what_stands_ahead(self):
+        for thing in WHATEVER:
+            self.refused(NoLoad, is_chain, MIXED, (10, thing))
+            self.refused(NoThrow, bearing_holds, MIXED, (5, thing))
+
+    def test_no_root(self):
+        for load in (4, 5, 6, 7, 8):
+            self.refused(NoLoad, reached, MIXED, (load,))
+
+    def test_a_book_without_loads(self):
+        for asked in (made_of, origins_of, first_chain, many_chains, reached):
+            for load in (0, 1, -1, None):
+                self.refused(NoLoad, asked, (TRAIN, (), ()), (load,))
+
+    def test_a_book_without_deeds(self):
+        empty = (TRAIN, (), ())
+        self.assertEqual(loads_by(empty, 0), [])
+        for asked in (loads_by, holders_by, stock_by, flows_by):
+            for many in (1, -1, True, False):
+                self.refused(NoNumber, asked, empty, (many,))
+
+    def test_a_load_that_a_later_deed_makes_is_one(self):
+        book = (TRAIN, (), (("sell", 0, 1, (1, 2)), ("bring", 0, 0, 1)))
+        self.assertEqual(made_of(book, 0), [])
+        self.refused(NoLoad, made_of, book, (1,))
+
+
+class NotDoneAheadOfAll(unittest.TestCase):
+    def not_done(self, at, asked, book, things):
+        with self.assertRaises(NotDone) as taken:
+            asked(book, *things)
+        self.assertIs(type(taken.exception), NotDone)
+        self.assertEqual(taken.exception.at, at)
+
+    def test_ahead_of_right_and_wrong_things(self):
+        for asked, parts in ASKED.items():
+            for at, part in enumerate(parts):
+                things = list(RIGHT[part]) + (wrong_of(part) if part in CLASSES else WHATEVER)
+                for thing in things:
+                    self.not_done(4, asked, UNDONE, with_things(parts, {at: thing}))
+            self.not_done(4, asked, UNDONE, [None] * len(parts))
+
+    def test_of_nothing_else(self):
+        self.not_done(4, come_home, UNDONE, ())
+
+    def test_also_where_the_wrong_deed_stands_behind(self):
+        # The deeds that are asked for could be done.
+        for many in range(5):
+            for asked in (loads_by, holders_by, stock_by, flows_by):
+                self.not_done(4, asked, UNDONE, (many,))
+
+    def test_each_place(self):
+        for at in range(len(MIXED[2]) + 1):
+            book = MIXED[:2] + (MIXED[2][:at] + (("spoil", 99, 1),) + MIXED[2][at:],)
+            for asked, parts in ASKED.items():
+                self.not_done(at, asked, book, with_things(parts, {}))
+
+
+class Kept(unittest.TestCase):
+    """[5], [6]: nothing that is handed in is changed, and a refusal changes nothing."""
+
+    def test_things_of_whatever_kind(self):
+        things = copy.deepcopy(WHATEVER)
+        for asked, parts in ASKED.items():
+            for thing in WHATEVER if "thing" in parts else []:
+                told = [asked(MIXED, *with_things(parts, {len(parts) - 1: thing})) for _ in range(2)]
+                self.assertEqual(told[0], told[1])
+        self.assertEqual(WHATEVER, things)
+
+    def test_things_and_answers(self):
+        things = copy.deepcopy(WHATEVER)
+        right = [(asked, with_things(parts, {})) for asked, parts in ASKED.items()]
+        told = [asked(MIXED, *handed) for asked, handed in right]
+        for asked, parts in ASKED.items():
+            for thing in WHATEVER:
+                if parts and parts[0] in CLASSES and not is_right(parts[0], thing):
+                    with self.assertRaises(CLASSES[parts[0]]):
+                        asked(MIXED, *with_things(parts, {0: thing}))
+        self.assertEqual(WHATEVER, things)
+        self.assertEqual([asked(MIXED, *handed) for asked, handed in right], told)
+
+
+if __name__ == "__main__":
+    unittest.main()
