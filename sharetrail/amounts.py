@@ -26,12 +26,14 @@ def are_same(things, told):
 
 
 def is_same(thing, told):
-    """Whether a thing of whatever kind is just what is told: numbers, and lists and tuples of such."""
+    """Whether a thing of whatever kind is just what is told: numbers, None, and lists and tuples of such."""
     # By == alone True would be 1, and tuples with True in them would be those with 1.
     if isinstance(told, tuple):
         return isinstance(thing, tuple) and are_same(thing, told)
     if isinstance(told, list):
         return isinstance(thing, list) and are_same(thing, told)
+    if told is None:
+        return thing is None
     return is_whole(thing) and thing == told
 
 
@@ -65,6 +67,11 @@ def plus(one, other):
 def less(one, other):
     """The one amount less the other; its top may be below 0."""
     return lowest(one[0] * other[1] - other[0] * one[1], one[1] * other[1])
+
+
+def less_each(ones, others):
+    """Each of the amounts less the other one at its place."""
+    return tuple([less(one, other) for one, other in zip(ones, others)])
 
 
 def times(one, other):

@@ -1,7 +1,7 @@
 """Shares, trains, loads, deeds and books; which deeds can be done, and the loads that they make."""
 
 from sharetrail.amounts import ALL, is_amount, is_from, is_within, total
-from sharetrail.errors import NoLoad, NoNumber, NoPartner, NotDone
+from sharetrail.errors import NoLoad, NoNumber, NoPartner, NoPrices, NotDone
 
 MOST_FIRST = 4
 MOST_DEEDS = 20
@@ -77,9 +77,14 @@ def are_pieces(train, thing):
     return is_from(thing, 1)
 
 
+def are_values(thing, many):
+    """Whether a thing of whatever kind is a tuple of so many whole numbers from 1 to 99."""
+    return is_tuple_of(thing, many) and all([is_within(value, 1, 99) for value in thing])
+
+
 def are_worths(train, thing):
     """Whether a thing of whatever kind has a worth for each kind, and one for a beast."""
-    return is_tuple_of(thing, train[1] + 1) and all([is_within(worth, 1, 99) for worth in thing])
+    return are_values(thing, train[1] + 1)
 
 
 def is_sold_share(train, thing):
@@ -257,6 +262,11 @@ def is_place(book, thing):
     return is_within(thing, 0, len(book[2]) - 1)
 
 
+def is_place_of(book, word, thing):
+    """Whether a thing of whatever kind is the place of a deed of this word."""
+    return is_place(book, thing) and book[2][thing][0] == word
+
+
 def refuse_no_number(book, many):
     """Refuses what is no number of the book's deeds."""
     if not is_within(many, 0, len(book[2])):
@@ -273,6 +283,12 @@ def refuse_no_partner(book, partner):
     """Refuses what is no partner of the book's train."""
     if not is_partner(book[0], partner):
         raise NoPartner("the train has no such partner")
+
+
+def refuse_no_prices(book, prices):
+    """Refuses what hasn't a price for each kind of the book's train."""
+    if not are_values(prices, book[0][1]):
+        raise NoPrices("these are no prices of the train's kinds")
 
 
 def made_by(book, place):

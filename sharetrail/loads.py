@@ -92,6 +92,13 @@ def sums_by_kinds(kinds, held, shares):
     return tuple(sums)
 
 
+def theirs_told(book, many):
+    """What is each partner's behind so many deeds that can be done, by kinds."""
+    partners, kinds = book[0][:2]
+    held, owners, holders = state_by(book, many)
+    return [sums_by_kinds(kinds, held, [shares[partner] for shares in owners]) for partner in range(partners)]
+
+
 def loads_by(book, many):
     """The list of the loads behind so many deeds, by number."""
     refuse_undone(book)
@@ -113,5 +120,4 @@ def theirs_by(book, many, partner):
     refuse_undone(book)
     refuse_no_number(book, many)
     refuse_no_partner(book, partner)
-    held, owners, holders = state_by(book, many)
-    return sums_by_kinds(book[0][1], held, [shares[partner] for shares in owners])
+    return theirs_told(book, many)[partner]

@@ -1,14 +1,14 @@
 """What a throw costs, and who bears how much of it."""
 
 from sharetrail.amounts import is_same, plus, times, total
-from sharetrail.books import held_by, is_place, refuse_undone
+from sharetrail.books import held_by, is_place_of, refuse_undone
 from sharetrail.errors import NoThrow
 from sharetrail.loads import part_thrown, state_by
 
 
 def refuse_no_throw(book, place):
     """Refuses what is no place of a throw."""
-    if not is_place(book, place) or book[2][place][0] != "throw":
+    if not is_place_of(book, "throw", place):
         raise NoThrow("the book has no throw at this place")
 
 

@@ -5,8 +5,8 @@ import unittest
 from fractions import Fraction
 
 from sharetrail.amounts import (
-    ALL, NOTHING, greatest_divisor, is_amount, is_from, is_same, is_whole, is_within, less, lowest, mixed, plus, times,
-    total,
+    ALL, NOTHING, greatest_divisor, is_amount, is_from, is_same, is_whole, is_within, less, less_each, lowest, mixed, plus,
+    times, total,
 )
 from things import NO_NUMBERS, WHATEVER, amount
 
@@ -58,6 +58,13 @@ class Same(unittest.TestCase):
         for told in (0, 1, -1, 10 ** 50, (), [], (1, 2), [1, 2], [(1,), ((0, 1), [2])], ((), [])):
             self.assertIs(is_same(copy.deepcopy(told), told), True, told)
 
+    def test_none(self):
+        self.assertIs(is_same(None, None), True)
+        self.assertIs(is_same((1, None), (1, None)), True)
+        for thing in [thing for thing in WHATEVER if thing is not None]:
+            self.assertIs(is_same(thing, None), False, thing)
+            self.assertIs(is_same((1, thing), (1, None)), False, thing)
+
     def test_truths(self):
         pairs = [(True, 1), (False, 0), ((True,), (1,)), ([(1, False)], [(1, 0)]), ((0, (1, True)), (0, (1, 1)))]
         for thing, told in pairs:
@@ -98,6 +105,11 @@ class Reckoning(unittest.TestCase):
                 self.assertEqual(plus(one, other), amount(left + right))
                 self.assertEqual(less(one, other), amount(left - right))
                 self.assertEqual(times(one, other), amount(left * right))
+
+    def test_less_each(self):
+        told = tuple(less(one, other) for one, other in zip(AMOUNTS, AMOUNTS[::-1]))
+        self.assertEqual(less_each(tuple(AMOUNTS), tuple(AMOUNTS[::-1])), told)
+        self.assertEqual(less_each((), ()), ())
 
     def test_mixed(self):
         for one in AMOUNTS:

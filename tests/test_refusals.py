@@ -1,11 +1,15 @@
 """[6]: what is refused, with which class, and what is looked at first."""
 
 import copy
+import itertools
 import unittest
 
 from sharetrail.chains import come_home, first_chain, is_chain, made_of, many_chains, origins_of, reached
-from sharetrail.errors import NoLoad, NoNumber, NoPartner, NotDone, NoThrow
+from sharetrail.clashes import clash_holds, first_clash, trades_of
+from sharetrail.errors import NoLoad, NoNumber, NoOrder, NoPartner, NoPrices, NoSale, NotDone, NoThrow
+from sharetrail.home import account_of, due_of, next_book, settled, stays_over, takes_of
 from sharetrail.loads import holders_by, loads_by, theirs_by
+from sharetrail.sales import turned_by, unsold
 from sharetrail.stops import flows_by, sheet_holds, stock_by
 from sharetrail.throws import bearing, bearing_holds, cost_of
 from things import MIXED, NO_NUMBERS, TRAIN, UNDONE, WHATEVER
@@ -25,25 +29,45 @@ ASKED = {
     many_chains: ("load",),
     reached: ("load",),
     come_home: (),
-    cost_of: ("place",),
-    bearing: ("place",),
-    bearing_holds: ("place", "thing"),
+    cost_of: ("throw",),
+    bearing: ("throw",),
+    bearing_holds: ("throw", "thing"),
+    unsold: ("sale",),
+    turned_by: ("sale",),
+    due_of: ("partner", "load"),
+    account_of: ("partner", "prices", "prices"),
+    settled: ("order",),
+    takes_of: ("partner",),
+    stays_over: (),
+    next_book: (),
+    trades_of: (),
+    first_clash: ("book",),
+    clash_holds: ("book", "thing"),
 }
-CLASSES = {"many": NoNumber, "partner": NoPartner, "load": NoLoad, "place": NoThrow}
-# Of the book MIXED: right ones, and the numbers that are one too many.
-RIGHT = {"many": (0, 1, 13), "partner": (0, 1), "load": (0, 9), "place": (4, 8, 12), "thing": (None, (0,))}
-BEYOND = {"many": (14, 15), "partner": (2, 3), "load": (10, 11), "place": (0, 5, 13, 14)}
+CLASSES = {
+    "many": NoNumber, "partner": NoPartner, "load": NoLoad, "throw": NoThrow, "sale": NoSale, "prices": NoPrices,
+    "order": NoOrder,
+}
+# Of the book MIXED: right ones, and those that are just beyond.
+RIGHT = {
+    "many": (0, 1, 13), "partner": (0, 1), "load": (0, 9), "throw": (4, 8, 12), "sale": (2, 10), "thing": (None, (0,)),
+    "prices": ((1, 2, 3), (99, 1, 99)), "order": ((), (0,), (1,), (0, 1), (1, 0)), "book": (MIXED,),
+}
+BEYOND = {
+    "many": (14, 15), "partner": (2, 3), "load": (10, 11), "throw": (0, 5, 13, 14), "sale": (0, 4, 13, 14),
+    "prices": ((1, 2), (1, 2, 3, 4), (0, 1, 2), (1, 2, 100), [1, 2, 3]), "order": ((2,), (0, 0), (0, True), [0, 1]),
+}
 NOWHERE = NO_NUMBERS + ["a" * 4000, 10 ** 39, 10 ** 40 - 1, 10 ** 40, (0,), [0], {0: 0}, None, "0"]
 
 
 def wrong_of(part):
     """What is refused where this part is asked."""
-    return list(BEYOND[part]) + NOWHERE + [thing for thing in WHATEVER if not is_right(part, thing)]
+    return list(BEYOND[part]) + [thing for thing in NOWHERE + WHATEVER if not is_right(part, thing)]
 
 
 def is_right(part, thing):
-    bounds = {"many": range(14), "partner": range(2), "load": range(10), "place": (4, 8, 12)}
-    return not isinstance(thing, bool) and thing in bounds[part]
+    bounds = {"many": range(14), "partner": range(2), "load": range(10)}
+    return not isinstance(thing, bool) and thing in bounds.get(part, RIGHT[part])
 
 
 def with_things(parts, chosen):
@@ -71,9 +95,21 @@ class Refusals(unittest.TestCase):
                     self.refused(CLASSES[part], asked, MIXED, with_things(parts, {at: thing}))
 
     def test_the_left_one_first(self):
-        for many in wrong_of("many"):
-            for partner in (2, -1, None, True, [0], (0,), {}, "0", 10 ** 39):
-                self.refused(NoNumber, theirs_by, MIXED, (many, partner))
+        pairs = 0
+        for asked, parts in ASKED.items():
+            for left, right in itertools.combinations([at for at, part in enumerate(parts) if part in CLASSES], 2):
+                pairs += 1
+                for thing in wrong_of(parts[left]):
+                    for other in list(BEYOND[parts[right]]) + NO_NUMBERS:
+                        if not is_right(parts[right], other):
+                            things = with_things(parts, {left: thing, right: other})
+                            self.refused(CLASSES[parts[left]], asked, MIXED, things)
+        self.assertGreaterEqual(pairs, 5)
+
+    def test_all_wrong(self):
+        for asked, parts in ASKED.items():
+            if parts and parts[0] in CLASSES:
+                self.refused(CLASSES[parts[0]], asked, MIXED, [None] * len(parts))
 
     def test_a_thing_of_whatever_kind_does_not_hide_what_stands_ahead(self):
         for thing in WHATEVER:
@@ -117,8 +153,13 @@ class NotDoneAheadOfAll(unittest.TestCase):
                     self.not_done(4, asked, UNDONE, with_things(parts, {at: thing}))
             self.not_done(4, asked, UNDONE, [None] * len(parts))
 
+    def test_ahead_of_too_many(self):
+        over = (TRAIN, (), tuple(("bring", 0, 0, 1) for _ in range(5)) + (("spoil", 9, 1),))
+        self.not_done(5, next_book, over, ())
+
     def test_of_nothing_else(self):
-        self.not_done(4, come_home, UNDONE, ())
+        for asked in (come_home, stays_over, next_book, trades_of):
+            self.not_done(4, asked, UNDONE, ())
 
     def test_also_where_the_wrong_deed_stands_behind(self):
         # The deeds that are asked for could be done.
