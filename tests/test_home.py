@@ -145,6 +145,11 @@ class Accounts(unittest.TestCase):
             self.assertEqual(account_of(hired(book, 0, part), 0, (1,), (1,))[2:], ((0, 1), (0, 1)))
             self.assertEqual(account_of(hired(book, 0, part), 0, (4,), (1,))[2:], ((-30, 1), (0, 1)))
 
+    def test_a_gain_of_less_than_a_piece(self):
+        # Nine tenths of a third, and a tenth of two thirds, for a third.
+        book = ((2, 1, 1, ((2, 3), (1, 3)), 1, 7), ((0, 1, ((1, 3), (2, 3))),), ())
+        self.assertEqual(account_of(book, 0, (1,), (1,)), ((1, 3), (11, 30), (1, 30), (7, 300)))
+
     def test_what_was_lost_was_put_in_still(self):
         book = (TRAIN, (), (("bring", 0, 0, 6), ("spoil", 0, 6)))
         self.assertEqual(account_of(book, 0, (3, 1, 1), (9, 9, 9)), ((18, 1), (0, 1), (-18, 1), (0, 1)))

@@ -17,7 +17,7 @@ BUILTINS = set(
 METHODS = set(
     "append clear copy count endswith extend find get index insert isalnum isalpha isdigit islower isspace isupper items"
     " join keys ljust lower lstrip partition pop remove replace reverse rfind rjust rpartition rsplit rstrip setdefault"
-    " split splitlines startswith strip update upper values zfill bit_length add discard sort __init__".split()
+    " split splitlines startswith strip update upper values zfill bit_length isascii add discard sort __init__".split()
 )
 WORDS = re.compile(
     r"\b(type|typing|typing_extensions|enum|Enum|IntEnum|StrEnum|Flag|IntFlag|Generic|Protocol|ABC|ABCMeta|namedtuple"
@@ -146,6 +146,37 @@ class Language(unittest.TestCase):
         for node, where in nodes(ast.Call):
             if isinstance(node.func, ast.Attribute):
                 self.assertIn(node.func.attr, METHODS | own, where)
+
+    def test_no_name_is_a_method_and_a_value(self):
+        methods, values = set(), set()
+        for node, where in nodes(ast.ClassDef):
+            methods |= {row.name for row in node.body if isinstance(row, ast.FunctionDef)}
+        for node, where in nodes(ast.Attribute):
+            if isinstance(node.ctx, ast.Store):
+                values.add(node.attr)
+        self.assertEqual(methods & values, set())
+        for file in FILES:
+            tree = ast.parse(file.read_text())
+            called = {node.func for node in ast.walk(tree) if isinstance(node, ast.Call)}
+            for node in ast.walk(tree):
+                if isinstance(node, ast.Attribute) and node not in called:
+                    self.assertIn(node.attr, values | {"__init__"}, f"{file.name}:{node.lineno}")
+
+    def test_exponents_are_written(self):
+        for node, where in nodes(ast.BinOp):
+            if isinstance(node.op, ast.Pow):
+                self.assertIsInstance(node.right, ast.Constant, where)
+                self.assertIn(node.right.value, range(65), where)
+
+    def test_a_set_is_straight_within_sorted_or_len(self):
+        for file in FILES:
+            tree = ast.parse(file.read_text())
+            within = [node.args[0] for node in ast.walk(tree) if isinstance(node, ast.Call) and node.args
+                      and isinstance(node.func, ast.Name) and node.func.id in ("sorted", "len")]
+            for node in ast.walk(tree):
+                if isinstance(node, ast.Call) and isinstance(node.func, ast.Name) and node.func.id == "set":
+                    self.assertIn(node, within, f"{file.name}:{node.lineno}")
+            self.assertFalse([node for node in ast.walk(tree) if isinstance(node, (ast.Set, ast.SetComp))], file.name)
 
     def test_is_beside_none_true_and_false_alone(self):
         for node, where in nodes(ast.Compare):

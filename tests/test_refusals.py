@@ -4,6 +4,8 @@ import copy
 import itertools
 import unittest
 
+from sharetrail.alone import alone_of, by_others
+from sharetrail.books import first_wrong, is_book, made_by
 from sharetrail.chains import come_home, first_chain, is_chain, made_of, many_chains, origins_of, reached
 from sharetrail.clashes import clash_holds, first_clash, trades_of
 from sharetrail.errors import NoLoad, NoNumber, NoOrder, NoPartner, NoPrices, NoSale, NotDone, NoThrow
@@ -11,11 +13,13 @@ from sharetrail.home import account_of, due_of, next_book, settled, stays_over, 
 from sharetrail.loads import holders_by, loads_by, theirs_by
 from sharetrail.sales import turned_by, unsold
 from sharetrail.stops import flows_by, sheet_holds, stock_by
+from sharetrail.texts import book_text
 from sharetrail.throws import bearing, bearing_holds, cost_of
 from things import MIXED, NO_NUMBERS, TRAIN, UNDONE, WHATEVER
 
 # What each is asked behind its book.
 ASKED = {
+    made_by: ("place",),
     loads_by: ("many",),
     holders_by: ("many",),
     theirs_by: ("many", "partner"),
@@ -43,19 +47,24 @@ ASKED = {
     trades_of: (),
     first_clash: ("book",),
     clash_holds: ("book", "thing"),
+    alone_of: ("partner",),
+    by_others: ("partner",),
+    book_text: (),
 }
 CLASSES = {
-    "many": NoNumber, "partner": NoPartner, "load": NoLoad, "throw": NoThrow, "sale": NoSale, "prices": NoPrices,
-    "order": NoOrder,
+    "place": NoNumber, "many": NoNumber, "partner": NoPartner, "load": NoLoad, "throw": NoThrow, "sale": NoSale,
+    "prices": NoPrices, "order": NoOrder,
 }
 # Of the book MIXED: right ones, and those that are just beyond.
 RIGHT = {
-    "many": (0, 1, 13), "partner": (0, 1), "load": (0, 9), "throw": (4, 8, 12), "sale": (2, 10), "thing": (None, (0,)),
-    "prices": ((1, 2, 3), (99, 1, 99)), "order": ((), (0,), (1,), (0, 1), (1, 0)), "book": (MIXED,),
+    "place": (0, 1, 12), "many": (0, 1, 13), "partner": (0, 1), "load": (0, 9), "throw": (4, 8, 12), "sale": (2, 10),
+    "thing": (None, (0,)), "prices": ((1, 2, 3), (99, 1, 99)), "order": ((), (0,), (1,), (0, 1), (1, 0)),
+    "book": (MIXED,),
 }
 BEYOND = {
-    "many": (14, 15), "partner": (2, 3), "load": (10, 11), "throw": (0, 5, 13, 14), "sale": (0, 4, 13, 14),
-    "prices": ((1, 2), (1, 2, 3, 4), (0, 1, 2), (1, 2, 100), [1, 2, 3]), "order": ((2,), (0, 0), (0, True), [0, 1]),
+    "place": (13, 14), "many": (14, 15), "partner": (2, 3), "load": (10, 11), "throw": (0, 5, 13, 14),
+    "sale": (0, 4, 13, 14), "prices": ((1, 2), (1, 2, 3, 4), (0, 1, 2), (1, 2, 100), [1, 2, 3]),
+    "order": ((2,), (0, 0), (0, True), [0, 1]),
 }
 NOWHERE = NO_NUMBERS + ["a" * 4000, 10 ** 39, 10 ** 40 - 1, 10 ** 40, (0,), [0], {0: 0}, None, "0"]
 
@@ -66,7 +75,7 @@ def wrong_of(part):
 
 
 def is_right(part, thing):
-    bounds = {"many": range(14), "partner": range(2), "load": range(10)}
+    bounds = {"place": range(13), "many": range(14), "partner": range(2), "load": range(10)}
     return not isinstance(thing, bool) and thing in bounds.get(part, RIGHT[part])
 
 
@@ -158,8 +167,12 @@ class NotDoneAheadOfAll(unittest.TestCase):
         self.not_done(5, next_book, over, ())
 
     def test_of_nothing_else(self):
-        for asked in (come_home, stays_over, next_book, trades_of):
+        for asked in (come_home, stays_over, next_book, trades_of, book_text):
             self.not_done(4, asked, UNDONE, ())
+
+    def test_but_by_first_wrong_and_is_book(self):
+        self.assertIs(is_book(UNDONE), True)
+        self.assertEqual(first_wrong(UNDONE), 4)
 
     def test_also_where_the_wrong_deed_stands_behind(self):
         # The deeds that are asked for could be done.
@@ -196,6 +209,37 @@ class Kept(unittest.TestCase):
                         asked(MIXED, *with_things(parts, {0: thing}))
         self.assertEqual(WHATEVER, things)
         self.assertEqual([asked(MIXED, *handed) for asked, handed in right], told)
+
+
+def changed(told):
+    """How many lists are in what was told; each is emptied, and has something else put in."""
+    many = 0
+    if isinstance(told, (list, tuple)):
+        many += sum([changed(part) for part in told])
+    if isinstance(told, list):
+        told.clear()
+        told.append("other")
+        many += 1
+    return many
+
+
+class ToldLists(unittest.TestCase):
+    """[5]: what is done to a told list changes nothing else."""
+
+    def test_asked_again_with_the_told_lists_changed(self):
+        lists = {}
+        for asked, parts in ASKED.items():
+            lists[asked] = 0
+            for at, part in enumerate(parts or (None,)):
+                for thing in RIGHT.get(part, (None,)):
+                    things = with_things(parts, {at: thing})
+                    told = [asked(MIXED, *things) for _ in range(2)]
+                    lists[asked] += changed(told[0])
+                    self.assertEqual(asked(MIXED, *things), told[1])
+        telling = {asked for asked in lists if lists[asked]}
+        self.assertEqual(
+            telling, {loads_by, made_of, origins_of, reached, come_home, settled, takes_of, trades_of},
+        )
 
 
 if __name__ == "__main__":
